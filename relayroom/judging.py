@@ -17,7 +17,7 @@ def judged(board, pressed, stand):
 
 
 def steps_from(board, pressed, stand):
-    # Each stand that can be come to, with its moves and where they lead.
+    # The relay is kept beside where it leads, since roads and rings are told as relays.
     steps = {}
     due = [stand]
     while due:
